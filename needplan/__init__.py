@@ -1,0 +1,1 @@
+"""Needplan: what must be made, and when."""
