@@ -46,6 +46,14 @@ class Rings(unittest.TestCase):
         self.assertIsNone(ring(asked), asked)
         self.assertIsNone(check_rings(asked), asked)
 
+    def found(self, asked):
+        if has_ring(asked):
+            self.assertTrue(is_ring(asked, ring(asked)), (asked, ring(asked)))
+            self.refused(asked)
+            return True
+        self.taken(asked)
+        return False
+
     def test_rings(self):
         for rows in RINGS:
             for order in (rows, rows[::-1]):
@@ -67,24 +75,14 @@ class Rings(unittest.TestCase):
     def test_every_small_shop(self):
         found = 0
         for asked in small_shops():
-            if has_ring(asked):
-                found += 1
-                self.assertTrue(is_ring(asked, ring(asked)), (asked, ring(asked)))
-                self.refused(asked)
-            else:
-                self.taken(asked)
+            found += self.found(asked)
         # Of three wares, 25 ways of being parts have no ring.
         self.assertEqual(found, 512 - 25)
 
     def test_many_shops(self):
         found = 0
         for asked in random_shops(400, 6, False):
-            if has_ring(asked):
-                found += 1
-                self.assertTrue(is_ring(asked, ring(asked)), (asked, ring(asked)))
-                self.refused(asked)
-            else:
-                self.taken(asked)
+            found += self.found(asked)
         self.assertTrue(50 < found < 350, found)
         for asked in random_shops(200, 7, True):
             self.taken(asked)
