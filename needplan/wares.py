@@ -21,6 +21,11 @@ COMING = 5
 PARTS = 6
 MEMBERS = 7
 
+# The places of a want's members.
+WANT_NAME = 0
+WANT_DAY = 1
+WANT_AMOUNT = 2
+
 
 def is_name(found):
     if not isinstance(found, str) or not 1 <= len(found) <= MOST_LETTERS:

@@ -59,6 +59,29 @@ def chain(names, lag=1):
     return rows + [f"{names[-1]} {lag}"]
 
 
+# Rows of shops, each with a ring at least.
+RINGS = [
+    ["a 0 a"],
+    ["b", "a 0 b a"],
+    ["a 0 b", "b 0 b"],
+    ["a 0 b", "b 0 a"],
+    ["b 0 a", "a 0 b", "c"],
+    ["a 0 b", "b 0 c", "c 0 a"],
+    ["a 0 c", "b 0 a", "c 0 b"],
+    ["top 0 a", "a 0 b", "b 0 c", "c 0 b end", "end"],
+    ["end", "top 0 end a", "a 0 end b", "b 0 end c", "c 0 end a"],
+    ["a 0 a", "b 0 b", "c 0 c"],
+    ["a 0 b", "b 0 a", "c 0 d", "d 0 c", "e 0 a c"],
+    ["a 0 b c", "b 0 c a", "c 0 a b"],
+    ["a 0 b", "b 0 c d", "c 0 a", "d 0 b"],
+    [f"{LETTERS[place]} 0 {LETTERS[(place + 1) % 12]}" for place in range(12)],
+    [f"{LETTERS[place]} 0 {LETTERS[(place + 5) % 12]}" for place in range(12)],
+    [f"{LETTERS[place]} 0 {LETTERS[(place - 1) % 12]}" for place in range(12)],
+    chain(LETTERS[:11]) + ["l 0 l"],
+    chain(LETTERS[:11])[:10] + ["k 0 l", "l 0 k"],
+]
+
+
 def parts_of(asked):
     return {entry[0]: [part[0] for part in entry[6]] for entry in asked[0]}
 
@@ -124,3 +147,38 @@ def random_shops(many, seed, ringless):
             wares.append(ware(name, source.randint(0, 30), parts=tuple((part, 2) for part in takes)))
         source.shuffle(wares)
         yield (tuple(wares), ((names[0], 3, 5),))
+
+
+def full_shops(many, seed, count=6, last=12, lag=4, amount=9):
+    """The same shops each time, without rings, with stock, floors, things on the way and wants of all sorts."""
+    source = random.Random(seed)
+    for turn in range(many):
+        names = source.sample(LETTERS, source.randint(1, count))
+        wares = []
+        for place, name in enumerate(names):
+            below = names[place + 1:]
+            takes = source.sample(below, min(len(below), source.choice((0, 1, 1, 2, 3))))
+            parts = tuple((part, source.randint(1, 3)) for part in takes)
+            coming = tuple((source.randint(0, last + 3), source.randint(0, amount))
+                           for arrival in range(source.choice((0, 0, 1, 2, 4))))
+            floor = source.choice((0, 0, 0, source.randint(0, amount // 2)))
+            stock = source.choice((0, floor, source.randint(floor, 2 * amount), source.randint(0, 9 * amount)))
+            wares.append(ware(name, source.randint(0, lag), source.randint(1, 5), floor, stock, coming, parts))
+        source.shuffle(wares)
+        wants = tuple((source.choice(names), source.randint(0, last), source.choice((0, 1, source.randint(0, amount))))
+                      for want in range(source.choice((0, 1, 1, 2, 3, 5))))
+        yield (tuple(wares), wants)
+
+
+def changed(told):
+    """Changes whatever can be changed in what is told, at every depth."""
+    for entry in list(told.values()) if isinstance(told, dict) else told:
+        if isinstance(entry, (tuple, list, dict)):
+            changed(entry)
+    if isinstance(told, list):
+        told.append(-1)
+        told[0] = "changed"
+    if isinstance(told, dict):
+        for name in list(told):
+            told[name] = "changed"
+        told["more"] = []

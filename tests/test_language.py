@@ -1,13 +1,14 @@
 """The package's files keep to the part of Python that is asked for, as far as is easily seen."""
 
 import ast
+import builtins
 import importlib
 import pathlib
 import re
 import unittest
 
 PACKAGE = pathlib.Path(__file__).resolve().parent.parent / "needplan"
-MODULES = ("errors", "wares", "order")
+MODULES = ("errors", "wares", "order", "explode", "rows", "plans", "shifts")
 WORDS = re.compile(
     r"\b(type|typing|typing_extensions|enum|Enum|IntEnum|StrEnum|Flag|IntFlag|Generic|Protocol|ABC|ABCMeta"
     r"|namedtuple|NamedTuple|TypedDict|TYPE_CHECKING|abstractmethod)\b|dataclass|overload|contextmanager")
@@ -15,6 +16,13 @@ STATEMENTS = (ast.FunctionDef, ast.ClassDef, ast.ImportFrom, ast.Assign, ast.Aug
               ast.Return, ast.Break, ast.Continue, ast.Pass, ast.Raise, ast.Try, ast.Expr)
 NO_EXPRESSIONS = (ast.Set, ast.SetComp, ast.DictComp, ast.GeneratorExp, ast.NamedExpr, ast.Starred, ast.Yield,
                   ast.YieldFrom, ast.Await, ast.Div, ast.MatMult)
+
+BUILT_IN = """len range enumerate zip min max sum abs sorted reversed int str bool list tuple dict set frozenset isinstance
+    ord repr any all divmod Exception ValueError TypeError KeyError IndexError LookupError ZeroDivisionError
+    ArithmeticError OverflowError RuntimeError NotImplementedError StopIteration""".split()
+METHODS = """append clear copy count endswith extend find get index insert isalnum isalpha isdigit islower isspace isupper
+    items join keys ljust lower lstrip partition pop remove replace reverse rfind rjust rpartition rsplit rstrip
+    setdefault split splitlines startswith strip update upper values zfill bit_length""".split()
 
 
 def files():
@@ -73,6 +81,31 @@ class Language(unittest.TestCase):
                     self.assertEqual(node.level, 0, path)
                     self.assertRegex(node.module, r"\Aneedplan\.[a-z]+\Z", path)
                     self.assertNotIn("*", [entry.name for entry in node.names], path)
+
+    def test_names_of_python_s_own(self):
+        for path, tree in trees():
+            for node in ast.walk(tree):
+                if isinstance(node, ast.Name) and hasattr(builtins, node.id):
+                    self.assertIn(node.id, BUILT_IN, (path, node.lineno))
+                if isinstance(node, ast.Attribute):
+                    self.assertIn(node.attr, METHODS, (path, node.lineno))
+                if isinstance(node, ast.Compare) and any(isinstance(sort, (ast.Is, ast.IsNot)) for sort in node.ops):
+                    self.assertIn(ast.unparse(node.comparators[0]), ("None", "True", "False"), (path, node.lineno))
+
+    def test_given_names(self):
+        for path, tree in trees():
+            taken = [entry.name for node in tree.body if isinstance(node, ast.ImportFrom) for entry in node.names]
+            taken += [node.name for node in tree.body if isinstance(node, ast.ClassDef)]
+            self.assertEqual(len(taken), len(set(taken)), path)
+            read = [node.id for node in ast.walk(tree) if isinstance(node, ast.Name) and isinstance(node.ctx, ast.Load)]
+            for node in ast.walk(tree):
+                if isinstance(node, ast.ImportFrom):
+                    self.assertLessEqual({entry.name for entry in node.names}, set(read), path)
+                stored = isinstance(node, ast.Name) and isinstance(node.ctx, ast.Store)
+                if stored or isinstance(node, ast.arg):
+                    name = node.id if stored else node.arg
+                    self.assertRegex(name, r"\A[A-Za-z][A-Za-z0-9_]*\Z", (path, node.lineno))
+                    self.assertNotIn(name, taken + dir(builtins), (path, node.lineno))
 
 
 if __name__ == "__main__":

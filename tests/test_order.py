@@ -5,34 +5,13 @@ import unittest
 
 from needplan.errors import NeedError, Ring
 from needplan.order import check_rings, levels, ring, times, worked
-from samples import LETTERS, chain, has_ring, is_ring, level, random_shops, shop, small_shops, time, ware
+from samples import LETTERS, RINGS, chain, has_ring, is_ring, level, random_shops, shop, small_shops, time, ware
 
 HOUSE = shop(["house 5 door wall", "nail 2", "door 3 wood nail", "wall 1 brick nail door", "wood 7", "brick 4 clay",
               "clay 30", "shed 2 wood"])
 HOUSE_LEVELS = {"house": 0, "shed": 0, "wall": 1, "door": 2, "brick": 2, "nail": 3, "wood": 3, "clay": 3}
 HOUSE_WORKED = ["house", "shed", "wall", "door", "brick", "nail", "wood", "clay"]
 HOUSE_TIMES = {"house": 40, "nail": 2, "door": 10, "wall": 35, "wood": 7, "brick": 34, "clay": 30, "shed": 9}
-
-RINGS = [
-    ["a 0 a"],
-    ["b", "a 0 b a"],
-    ["a 0 b", "b 0 b"],
-    ["a 0 b", "b 0 a"],
-    ["b 0 a", "a 0 b", "c"],
-    ["a 0 b", "b 0 c", "c 0 a"],
-    ["a 0 c", "b 0 a", "c 0 b"],
-    ["top 0 a", "a 0 b", "b 0 c", "c 0 b end", "end"],
-    ["end", "top 0 end a", "a 0 end b", "b 0 end c", "c 0 end a"],
-    ["a 0 a", "b 0 b", "c 0 c"],
-    ["a 0 b", "b 0 a", "c 0 d", "d 0 c", "e 0 a c"],
-    ["a 0 b c", "b 0 c a", "c 0 a b"],
-    ["a 0 b", "b 0 c d", "c 0 a", "d 0 b"],
-    [f"{LETTERS[place]} 0 {LETTERS[(place + 1) % 12]}" for place in range(12)],
-    [f"{LETTERS[place]} 0 {LETTERS[(place + 5) % 12]}" for place in range(12)],
-    [f"{LETTERS[place]} 0 {LETTERS[(place - 1) % 12]}" for place in range(12)],
-    chain(LETTERS[:11]) + ["l 0 l"],
-    chain(LETTERS[:11])[:10] + ["k 0 l", "l 0 k"],
-]
 
 
 class Rings(unittest.TestCase):
