@@ -9,7 +9,7 @@ import plain
 from needplan.errors import Ring
 from needplan.order import worked
 from needplan.plans import begun, days_of, judged, needs, planned, stocks
-from samples import BIG, LETTERS, RINGS, chain, changed, full_shops, put, random_shops, shop, ware
+from samples import BIG, LETTERS, RINGS, chain, changed, full_shops, random_shops, shop, ware
 
 # A bench is made in two days of legs and boards, a leg in one day of boards; boards are bought, six days long.
 BENCH = ((ware("board", 6, 10, 3, 20, ((1, 5), (2, 7), (9, 100))),
