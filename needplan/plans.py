@@ -1,5 +1,6 @@
 """Plans: how many lots of each ware come on each day, what they need and leave, and the least of them."""
 
+from needplan.errors import NoPlan
 from needplan.order import check_rings, worked
 from needplan.rows import least_lots, so_far
 from needplan.wares import COMING, FLOOR, GIVES, LAG, NAME, PARTS, STOCK, WANT_AMOUNT, WANT_DAY, WANT_NAME, ware_of
@@ -44,6 +45,14 @@ def planned(shop):
             return ("short", plan, name, day, lots[day])
         plan[name] = lots
     return ("plan", plan)
+
+
+def plan_of(shop):
+    found = planned(shop)
+    if found[0] == "short":
+        name = found[2]
+        raise NoPlan(f"the shop is short of {name}")
+    return found[1]
 
 
 def count_days(shop):

@@ -170,6 +170,26 @@ def full_shops(many, seed, count=6, last=12, lag=4, amount=9):
         yield (tuple(wares), wants)
 
 
+def busy_shops(many, seed, count=5, last=9, lag=2, amount=7):
+    """The same shops each time, without rings, with little stock and several late wants, so that most is made."""
+    source = random.Random(seed)
+    for turn in range(many):
+        names = source.sample(LETTERS, source.randint(1, count))
+        wares = []
+        for place, name in enumerate(names):
+            takes = source.sample(names[place + 1:], min(len(names) - place - 1, source.choice((0, 1, 2, 3))))
+            parts = tuple((part, source.randint(1, 3)) for part in takes)
+            coming = tuple((source.randint(0, last + 3), source.randint(0, amount))
+                           for arrival in range(source.choice((0, 0, 1, 2, 5))))
+            floor = source.choice((0, 0, source.randint(0, amount)))
+            stock = floor + source.choice((0, 0, source.randint(0, amount)))
+            wares.append(ware(name, source.randint(0, lag), source.randint(1, 5), floor, stock, coming, parts))
+        source.shuffle(wares)
+        wants = tuple((source.choice(names[:2] + names), source.randint(last // 2, last), source.randint(0, amount))
+                      for want in range(source.randint(2, 8)))
+        yield (tuple(wares), wants)
+
+
 def changed(told):
     """Changes whatever can be changed in what is told, at every depth."""
     for entry in list(told.values()) if isinstance(told, dict) else told:

@@ -8,7 +8,7 @@ import re
 import unittest
 
 PACKAGE = pathlib.Path(__file__).resolve().parent.parent / "needplan"
-MODULES = ("errors", "wares", "order", "explode", "rows", "plans", "shifts")
+MODULES = ("errors", "wares", "order", "explode", "rows", "plans", "shifts", "pegs", "cheap", "texts", "desk")
 WORDS = re.compile(
     r"\b(type|typing|typing_extensions|enum|Enum|IntEnum|StrEnum|Flag|IntFlag|Generic|Protocol|ABC|ABCMeta"
     r"|namedtuple|NamedTuple|TypedDict|TYPE_CHECKING|abstractmethod)\b|dataclass|overload|contextmanager")
@@ -23,6 +23,10 @@ BUILT_IN = """len range enumerate zip min max sum abs sorted reversed int str bo
 METHODS = """append clear copy count endswith extend find get index insert isalnum isalpha isdigit islower isspace isupper
     items join keys ljust lower lstrip partition pop remove replace reverse rfind rjust rpartition rsplit rstrip
     setdefault split splitlines startswith strip update upper values zfill bit_length""".split()
+
+
+# The methods and values of the program's own classes.
+OWN = ["kept", "tell"]
 
 
 def files():
@@ -88,7 +92,7 @@ class Language(unittest.TestCase):
                 if isinstance(node, ast.Name) and hasattr(builtins, node.id):
                     self.assertIn(node.id, BUILT_IN, (path, node.lineno))
                 if isinstance(node, ast.Attribute):
-                    self.assertIn(node.attr, METHODS, (path, node.lineno))
+                    self.assertIn(node.attr, METHODS + OWN, (path, node.lineno))
                 if isinstance(node, ast.Compare) and any(isinstance(sort, (ast.Is, ast.IsNot)) for sort in node.ops):
                     self.assertIn(ast.unparse(node.comparators[0]), ("None", "True", "False"), (path, node.lineno))
 
